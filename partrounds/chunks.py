@@ -20,22 +20,32 @@ def margin_of(chunk):
     return chunk[0] - ZERO
 
 
+def row_of(letters):
+    """Give the row of 2 to 16 small letters, or None if these are none such."""
+    if not FEWEST_WORD_LETTERS <= len(letters) <= MOST_WORD_LETTERS:
+        return None
+    if not all([is_letter(byte) for byte in letters]):
+        return None
+    return (POINT,) + tuple(letters) + (POINT,)
+
+
 def word_of(chunk):
     """Give a word's row and the gaps where it may be parted, or None if the chunk is no word."""
     letters = []
     marks = []
     behind_letter = False
     for byte in chunk:
-        if is_letter(byte):
+        if byte != HYPHEN:
             letters.append(byte)
-        elif byte == HYPHEN and behind_letter:
+        elif behind_letter:
             marks.append(len(letters))
         else:
             return None
         behind_letter = byte != HYPHEN
-    if not behind_letter or not FEWEST_WORD_LETTERS <= len(letters) <= MOST_WORD_LETTERS:
+    row = row_of(letters)
+    if row is None or not behind_letter:
         return None
-    return (POINT,) + tuple(letters) + (POINT,), tuple(marks)
+    return row, tuple(marks)
 
 
 def without_points(chunk):

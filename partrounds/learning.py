@@ -1,14 +1,15 @@
 """The calls on one object, one behind another, and what they answer."""
 
-from partrounds.chunks import pattern_bytes, pattern_of
+from partrounds.chunks import pattern_bytes, pattern_of, row_of
 from partrounds.lists import list_of
-from partrounds.parting import parted_words, score_of
+from partrounds.parting import inner_gaps, parted_words, score_of
 from partrounds.rounds import after_round, are_level_and_length, candidates_of, is_round, tally
 from partrounds.tokens import Fault
 
 NO_LIST = -1
 WRONG_NUMBERS = -4
 TOO_MANY = -7
+NONE_EARLIER = -8
 
 MOST_PATTERNS = 200
 MOST_EARLIER = 20
@@ -30,6 +31,12 @@ class Learner:
         self.earlier = (self.earlier + [self.patterns])[-MOST_EARLIER:]
         self.patterns = patterns
 
+    def hold(self, held):
+        """Hold a list with its own patterns, such that none before can be brought back."""
+        self.held = held
+        self.patterns = held.patterns
+        self.earlier = []
+
 
 def load(learner, text):
     """Hold the list that a text tells, or tell the text's fault."""
@@ -37,9 +44,7 @@ def load(learner, text):
         held = list_of(text)
     except Fault as e:
         return [0, e.code, e.place]
-    learner.held = held
-    learner.patterns = held.patterns
-    learner.earlier = []
+    learner.hold(held)
     return [1, len(held.words), len(held.patterns)]
 
 
@@ -75,7 +80,13 @@ def rounds(learner, numbers):
             return [TOO_MANY]
     if told:
         learner.keep(patterns)
-    return [len(patterns)] + score_of(parted_words(learner.held, patterns))
+    return score(learner)
+
+
+def told_pattern(piece, digits):
+    """Give how many bytes a pattern has, and they."""
+    told = pattern_bytes(piece, digits)
+    return [len(told)] + told
 
 
 def candidates(learner, numbers):
@@ -86,8 +97,7 @@ def candidates(learner, numbers):
     found = candidates_of(parted_words(learner.held, learner.patterns), level, length)
     answer = [len(found)]
     for piece, digits, helped, hurt in found[:MOST_SHOWN]:
-        told = pattern_bytes(piece, digits)
-        answer.extend([len(told)] + told + [helped, hurt])
+        answer.extend(told_pattern(piece, digits) + [helped, hurt])
     return answer
 
 
@@ -105,24 +115,64 @@ def count_of(learner, chunk):
     return [helps.get(found, 0), hurts.get(found, 0)]
 
 
+def patterns_now(learner):
+    """Tell the patterns now, in the order in which they are held."""
+    answer = [len(learner.patterns)]
+    for piece, digits in learner.patterns.items():
+        answer.extend(told_pattern(piece, digits))
+    return answer
+
+
+def score(learner):
+    """Tell how many patterns there are now, and how the words stand by them."""
+    return [len(learner.patterns)] + score_of(parted_words(learner.held, learner.patterns))
+
+
+def part(learner, letters):
+    """Tell where letters are parted by the patterns now."""
+    row = row_of(letters)
+    if row is None:
+        return [WRONG_NUMBERS]
+    gaps = [gap for gap, parted in inner_gaps(learner.held, row, learner.patterns) if parted]
+    return [len(gaps)] + gaps
+
+
+def undo(learner):
+    """Bring back the patterns before the last round, or before the last rounds made as one."""
+    if not learner.earlier:
+        return [NONE_EARLIER]
+    learner.patterns = learner.earlier[-1]
+    learner.earlier = learner.earlier[:-1]
+    return [len(learner.patterns)]
+
+
+def forget(learner):
+    """Bring back the list's patterns."""
+    learner.hold(learner.held)
+    return [len(learner.patterns)]
+
+
 LOAD = 0
-CALLS = {0: load, 1: round_of, 2: rounds, 3: candidates, 4: count_of}
-# A call has so many whole numbers, or else one row with its length before it.
+CALLS = {0: load, 1: round_of, 2: rounds, 3: candidates, 4: count_of, 7: part}
+BARE_CALLS = {5: patterns_now, 6: score, 8: undo, 9: forget}
+# A call has so many whole numbers, or else one row with its length before it, or else nothing.
 PLAIN_NUMBERS = {1: 5, 3: 2}
-ROW_CALLS = (0, 2, 4)
+ROW_CALLS = (0, 2, 4, 7)
 
 
 def span_of(calls, at):
     """Give where the numbers of the call at this place begin, and where they end."""
     if calls[at] in ROW_CALLS:
         return at + 2, at + 2 + calls[at + 1]
-    return at + 1, at + 1 + PLAIN_NUMBERS[calls[at]]
+    return at + 1, at + 1 + PLAIN_NUMBERS.get(calls[at], 0)
 
 
 def answer_of(learner, call, numbers):
     """Answer one call."""
     if learner.held is None and call != LOAD:
         return [NO_LIST]
+    if call in BARE_CALLS:
+        return BARE_CALLS[call](learner)
     return CALLS[call](learner, numbers)
 
 

@@ -32,13 +32,18 @@ def gaps_within(row, left, right):
     return list(range(max(left, 1), letters - max(right, 1) + 1))
 
 
+def inner_gaps(held, row, patterns):
+    """Give each gap of a row within the held list's margins, and whether it is parted there."""
+    levels = levels_of(row, patterns)
+    return [(gap, levels[gap] % 2 == 1) for gap in gaps_within(row, held.left, held.right)]
+
+
 def parted_words(held, patterns):
     """Give each word's row, with its gaps within the margins: (gap, may be parted, is parted)."""
     words = []
     for row, marks in held.words.items():
-        levels = levels_of(row, patterns)
-        inner = gaps_within(row, held.left, held.right)
-        words.append((row, [(gap, gap in marks, levels[gap] % 2 == 1) for gap in inner]))
+        inner = inner_gaps(held, row, patterns)
+        words.append((row, [(gap, gap in marks, parted) for gap, parted in inner]))
     return words
 
 

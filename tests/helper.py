@@ -1,7 +1,6 @@
 """The calls as the interface tells them, for all tests: built here, and their answers taken apart."""
 
-from partrounds.chunks import pattern_bytes
-from partrounds.learning import Learner, answers, load as load_into
+from partrounds.learning import Learner, answer_of, answers, span_of
 
 BIG = 10 ** 18
 WORKED = "margins 1 1 ; word ta-ble ; word ca-ble ; word ab-le ;"
@@ -35,6 +34,26 @@ def count(pattern):
     return [4] + row(as_bytes(pattern))
 
 
+def patterns():
+    return [5]
+
+
+def score():
+    return [6]
+
+
+def part(letters):
+    return [7] + row(as_bytes(letters))
+
+
+def undo():
+    return [8]
+
+
+def forget():
+    return [9]
+
+
 def split(told):
     """Take what answers gave apart: one list of numbers for each call."""
     parts = []
@@ -61,16 +80,30 @@ def ask_after(text, *calls):
     return parts[1:]
 
 
+def as_text(numbers):
+    return bytes(numbers).decode("latin-1")
+
+
 def shown(answer):
     """Take an answer of candidates apart: how many, and (pattern, helps, hurts) for those told."""
     told = []
     at = 1
     while at < len(answer):
         size = answer[at]
-        pattern = "".join([chr(byte) for byte in answer[at + 1:at + 1 + size]])
-        told.append((pattern, answer[at + 1 + size], answer[at + 2 + size]))
+        told.append((as_text(answer[at + 1:at + 1 + size]), answer[at + 1 + size], answer[at + 2 + size]))
         at += size + 3
     return answer[0], told
+
+
+def named(answer):
+    """Take an answer of patterns apart: each pattern as a text, in order."""
+    told = []
+    at = 1
+    while at < len(answer):
+        told.append(as_text(answer[at + 1:at + 1 + answer[at]]))
+        at += 1 + answer[at]
+    assert (len(told), at) == (answer[0], len(answer)), "the counts don't fit the patterns"
+    return told
 
 
 def text_of(margins, words=(), patterns=()):
@@ -81,14 +114,39 @@ def text_of(margins, words=(), patterns=()):
     return "".join(lines)
 
 
-def learner_with(text):
-    """Give the object that the calls share, with a right text loaded."""
-    learner = Learner()
-    assert load_into(learner, as_bytes(text))[0] == 1
-    return learner
+def full_words():
+    """Words that may be parted at all gaps, and how many pieces of length 2 they have together."""
+    letters = "abcdefghijklmnopqrstuvwxyz"
+    words = [[letters[(first + step * at) % 26] for at in range(16)] for first, step in
+             enumerate((1, 3, 5, 7, 9, 11, 15, 17, 19, 21, 23))]
+    pieces = set()
+    for word in words:
+        edged = "." + "".join(word) + "."
+        pieces.update([edged[at:at + 2] for at in range(17)])
+    return ["-".join(word) for word in words], len(pieces)
 
 
-def patterns_of(learner):
-    """Give the patterns that the object holds, as texts, in order."""
-    told = [pattern_bytes(piece, digits) for piece, digits in learner.patterns.items()]
-    return ["".join([chr(byte) for byte in one]) for one in told]
+def crowded(patterns_after, more_words=()):
+    """Give a text from which round(1, 2, 1, 0, 0) makes so many patterns, those by more words not among them."""
+    words, pieces = full_words()
+    assert 160 <= pieces < 200
+    lone = [f"{a}{b}{a}1{b}" for a in "abcdef" for b in "uvwxyz"]
+    return text_of((1, 1), words + list(more_words), lone[:patterns_after - pieces])
+
+
+class Session:
+    """Calls one by one, on the object that they share, for what a line of twenty calls can't show."""
+
+    def __init__(self, text):
+        self.learner = Learner()
+        assert self.ask(load(text))[0] == 1
+
+    def ask(self, call):
+        """Hand one call in, as in a line, and give its answer."""
+        begin, end = span_of(call, 0)
+        return answer_of(self.learner, call[0], call[begin:end])
+
+    def state(self):
+        """Give all that the object holds, such that two of them can be compared."""
+        learner = self.learner
+        return learner.held, list(learner.patterns.items()), [list(one.items()) for one in learner.earlier]

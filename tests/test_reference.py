@@ -4,7 +4,8 @@ import random
 import re
 import unittest
 
-from helper import BIG, as_bytes, candidates, count, load, rounds, round_of, split
+from helper import (BIG, as_bytes, candidates, count, forget, load, part, patterns, rounds, round_of, score, split,
+                    undo)
 from partrounds.learning import answers
 
 CHUNK = re.compile("[a-z0-9.-]+")
@@ -110,7 +111,9 @@ class Object:
     def __init__(self):
         self.margins = None
         self.words = []
+        self.first = []
         self.patterns = []
+        self.earlier = []
 
     def level(self, patterns, letters, gap):
         return max([0] + [digit for one in patterns for at, digit in stands(one, letters) if at == gap])
@@ -190,7 +193,8 @@ class Object:
                 margins, words, patterns = read(bytes(rest[1:]).decode("latin-1"))
             except Wrong as e:
                 return [0] + list(e.args)
-            self.margins, self.words, self.patterns = margins, words, patterns
+            self.margins, self.words, self.first = margins, words, patterns
+            self.patterns, self.earlier = patterns, []
             return [1, len(words), len(patterns)]
         if self.margins is None:
             return [-1]
@@ -200,7 +204,7 @@ class Object:
             after, told = self.round(self.patterns, *rest)
             if len(after) > 200:
                 return [-7]
-            self.patterns = after
+            self.make(after)
             return told
         if number == 2:
             return self.rounds(rest[1:])
@@ -210,10 +214,36 @@ class Object:
             told = self.candidates(self.patterns, *rest)
             return [len(told)] + [number for one in told[:20]
                                   for number in [len(one)] + as_bytes(one) + self.counts(self.patterns, one)]
-        pattern = bytes(rest[1:]).decode("latin-1")
-        if not is_pattern(pattern) or len(re.findall("[1-9]", pattern)) > 1:
+        chunk = bytes(rest[1:]).decode("latin-1")
+        if number != 4:
+            return self.later_answer(number, chunk)
+        if not is_pattern(chunk) or len(re.findall("[1-9]", chunk)) > 1:
             return [-4]
-        return self.counts(self.patterns, pattern)
+        return self.counts(self.patterns, chunk)
+
+    def later_answer(self, number, letters):
+        if number == 5:
+            return [len(self.patterns)] + [told for one in self.patterns for told in [len(one)] + as_bytes(one)]
+        if number == 6:
+            return [len(self.patterns)] + self.score(self.patterns)
+        if number == 7:
+            if not re.fullmatch("[a-z]{2,16}", letters):
+                return [-4]
+            gaps = [gap for gap in range(1, len(letters))
+                    if gap >= self.margins[0] and len(letters) - gap >= self.margins[1]
+                    and self.level(self.patterns, letters, gap) % 2 == 1]
+            return [len(gaps)] + gaps
+        if number == 8:
+            if not self.earlier:
+                return [-8]
+            self.patterns = self.earlier.pop()
+        else:
+            self.patterns, self.earlier = self.first, []
+        return [len(self.patterns)]
+
+    def make(self, after):
+        self.earlier.append(self.patterns)
+        self.patterns = after
 
     def rounds(self, numbers):
         several = [numbers[at:at + 5] for at in range(0, len(numbers), 5)]
@@ -224,7 +254,8 @@ class Object:
             after = self.round(after, *one)[0]
             if len(after) > 200:
                 return [-7]
-        self.patterns = after
+        if several:
+            self.make(after)
         return [len(after)] + self.score(after)
 
 
@@ -276,7 +307,27 @@ def chance_numbers(chance):
     return numbers
 
 
+def chance_letters(chance, letters):
+    if chance.randint(0, 7) == 0:
+        return spoiled(chance, chance_word(chance, letters))
+    size = chance.choice([1, 2, 16, 17]) if chance.randint(0, 5) == 0 else chance.randint(2, 16)
+    return "".join([chance.choice(letters) for at in range(size)])
+
+
+def chance_later_call(chance, letters):
+    pick = chance.randint(0, 9)
+    if pick <= 1:
+        return patterns()
+    if pick <= 3:
+        return score()
+    if pick <= 5:
+        return part(chance_letters(chance, letters))
+    return undo() if pick <= 8 else forget()
+
+
 def chance_call(chance, letters):
+    if chance.randint(0, 1) == 0:
+        return chance_later_call(chance, letters)
     pick = chance.randint(0, 9)
     if pick == 0:
         return load(spoiled(chance, chance_text(chance, letters)))
@@ -301,9 +352,20 @@ class Reference(unittest.TestCase):
         for seed in range(250):
             chance = random.Random(seed)
             letters = chance.choice(["ab", "abc", "abcde"])
-            calls = [load(chance_text(chance, letters))]
-            calls += [chance_call(chance, letters) for step in range(chance.randint(1, 12))]
+            calls = [load(chance_text(chance, letters))] if chance.randint(0, 9) else []
+            calls += [chance_call(chance, letters) for step in range(chance.randint(1, 20 - len(calls)))]
             self.assert_same(calls)
+
+    def test_chance_lines_of_rounds_and_undos(self):
+        for seed in range(150):
+            chance = random.Random(seed)
+            calls = [load(chance_text(chance, "abc"))]
+            while len(calls) < 19:
+                made = round_of(*chance_numbers(chance))
+                several = rounds(*chance_numbers(chance), *chance_numbers(chance))
+                calls.append(chance.choice([made, made, several, undo(), undo(), patterns(), score(), forget(),
+                                            rounds(), part(chance_letters(chance, "abc"))]))
+            self.assert_same(calls + [patterns()])
 
     def test_chance_texts(self):
         for seed in range(1500):

@@ -1,9 +1,9 @@
-"""Refusals: -1, -4 and -7, in this order, each of which leaves the object as it was."""
+"""Refusals: -1, -4, -7 and -8, each of which leaves the object as it was."""
 
 import unittest
 
-from helper import BIG, WORKED, ask, ask_after, candidates, count, learner_with, load, rounds, round_of, text_of
-from partrounds.learning import CALLS
+from helper import (BIG, WORKED, Session, ask, ask_after, candidates, count, crowded, forget, full_words, load, part,
+                    patterns, rounds, round_of, score, text_of, undo)
 
 RIGHT_ROUND = (1, 2, 1, 1, 1)
 OUTSIDE = {0: (0, 10, -1, BIG, -BIG), 1: (0, 9, -1, BIG, -BIG)}
@@ -15,46 +15,40 @@ def changed(numbers, place, number):
     return tuple(numbers[:place]) + (number,) + tuple(numbers[place + 1:])
 
 
-def full_words():
-    """Words that may be parted at all gaps, and how many pieces of length 2 they have together."""
-    letters = "abcdefghijklmnopqrstuvwxyz"
-    words = [[letters[(first + step * at) % 26] for at in range(16)] for first, step in
-             enumerate((1, 3, 5, 7, 9, 11, 15, 17, 19, 21, 23))]
-    pieces = set()
-    for word in words:
-        edged = "." + "".join(word) + "."
-        pieces.update([edged[at:at + 2] for at in range(17)])
-    return ["-".join(word) for word in words], len(pieces)
-
-
-def crowded(patterns_after):
-    """Give a text from which round(1, 2, 1, 0, 0) makes so many patterns."""
-    words, pieces = full_words()
-    assert 160 <= pieces < 200
-    lone = [f"{a}{b}{a}1{b}" for a in "abcdef" for b in "uvwxyz"]
-    return text_of((1, 1), words, lone[:patterns_after - pieces])
-
-
 class NoList(unittest.TestCase):
+    every = [round_of(*RIGHT_ROUND), rounds(*RIGHT_ROUND), rounds(), candidates(1, 2), count("a1b"), patterns(),
+             score(), part("able"), undo(), forget()]
+
     def test_every_call_but_load(self):
-        told = ask(round_of(*RIGHT_ROUND), rounds(*RIGHT_ROUND), rounds(), candidates(1, 2), count("a1b"))
-        self.assertEqual(told, [[-1]] * 5)
+        self.assertEqual(ask(*self.every), [[-1]] * 10)
+
+    def test_each_call_by_itself(self):
+        for call in self.every:
+            self.assertEqual(ask(call), [[-1]])
+            self.assertEqual(ask(call, load(WORKED), score()), [[-1], [1, 3, 0], [0, 0, 0, 0, 3]])
 
     def test_before_all_else(self):
         told = ask(round_of(0, 0, -1, -1, -1), rounds(1, 2, 3), rounds(*[BIG] * 2000), candidates(-BIG, BIG),
-                   count("!"), count(""))
-        self.assertEqual(told, [[-1]] * 6)
+                   count("!"), count(""), part("!"), part(""), part("a" * 17))
+        self.assertEqual(told, [[-1]] * 9)
 
-    def test_a_fault_holds_no_list(self):
-        self.assertEqual(ask(load("!"), candidates(1, 2)), [[0, 2, 0], [-1]])
+    def test_behind_a_wrong_text(self):
+        for wrong in ("!", "", "margins 1 1 ; word a ;", " " * 4097):
+            told = ask(load(wrong), *self.every)
+            self.assertEqual(told[0][0], 0)
+            self.assertEqual(told[1:], [[-1]] * 10)
+
+    def test_they_hold_no_list_themselves(self):
+        self.assertEqual(ask(forget(), undo(), score(), forget(), patterns()), [[-1]] * 5)
 
     def test_a_list_without_words_is_a_list(self):
-        told = ask(load("margins 1 1 ;"), candidates(1, 2), count("a1b"), round_of(*RIGHT_ROUND), rounds())
-        self.assertEqual(told, [[1, 0, 0], [0], [0, 0], [0, 0, 0, 0, 0], [0, 0, 0, 0, 0]])
+        told = ask(load("margins 1 1 ;"), candidates(1, 2), count("a1b"), round_of(*RIGHT_ROUND), rounds(), patterns(),
+                   score(), part("able"), undo(), forget())
+        self.assertEqual(told, [[1, 0, 0], [0], [0, 0], [0] * 5, [0] * 5, [0], [0] * 5, [0], [0], [0]])
 
     def test_a_new_line_has_no_list(self):
         ask(load(WORKED))
-        self.assertEqual(ask(rounds()), [[-1]])
+        self.assertEqual(ask(*self.every), [[-1]] * 10)
 
 
 class WrongNumbers(unittest.TestCase):
@@ -163,32 +157,35 @@ class TooMany(unittest.TestCase):
 class Unchanged(unittest.TestCase):
     """A refusal leaves the object as it was."""
 
-    refusals = [
-        (1, (0, 2, 1, 1, 1)), (1, (1, 2, 1, 1, BIG)), (2, (1,)), (2, (1, 2, 1, 1, 1, 1, 9, 1, 1, 1)),
-        (2, RIGHT_ROUND * 11), (3, (10, 1)), (3, (1, -BIG)), (4, ()), (4, (97,)), (4, (49, 97, 50)),
-    ]
+    refusals = [round_of(0, 2, 1, 1, 1), round_of(1, 2, 1, 1, BIG), rounds(1), rounds(1, 2, 1, 1, 1, 1, 9, 1, 1, 1),
+                rounds(*RIGHT_ROUND * 11), candidates(10, 1), candidates(1, -BIG), count(""), count("a"), count("1a2"),
+                part(""), part("a"), part("ab-c"), part("a" * 17)]
 
-    def state(self, learner):
-        return (learner.held, list(learner.patterns.items()), [list(one.items()) for one in learner.earlier])
-
-    def assert_left(self, learner, call, numbers, code):
-        before = self.state(learner)
-        self.assertEqual(CALLS[call](learner, list(numbers)), [code])
-        self.assertEqual(self.state(learner), before)
+    def assert_left(self, session, call, code):
+        before = session.state()
+        self.assertEqual(session.ask(call), [code])
+        self.assertEqual(session.state(), before)
 
     def test_by_wrong_numbers(self):
-        learner = learner_with(WORKED)
+        session = Session(WORKED)
         for step in range(2):
-            for call, numbers in self.refusals:
-                self.assert_left(learner, call, numbers, -4)
-            CALLS[1](learner, list(RIGHT_ROUND))
+            for call in self.refusals:
+                self.assert_left(session, call, -4)
+            session.ask(round_of(*RIGHT_ROUND))
 
     def test_by_too_many_patterns(self):
-        learner = learner_with(crowded(201))
-        CALLS[1](learner, [1, 2, 1, 0, 2])
-        self.assert_left(learner, 1, (1, 2, 1, 0, 0), -7)
-        self.assert_left(learner, 2, (1, 2, 1, 0, 0), -7)
-        self.assert_left(learner, 2, (1, 2, 1, 0, 1000, 1, 2, 1, 0, 0), -7)
+        session = Session(crowded(201))
+        session.ask(round_of(1, 2, 1, 0, 2))
+        self.assert_left(session, round_of(1, 2, 1, 0, 0), -7)
+        self.assert_left(session, rounds(1, 2, 1, 0, 0), -7)
+        self.assert_left(session, rounds(1, 2, 1, 0, 1000, 1, 2, 1, 0, 0), -7)
+
+    def test_by_nothing_to_undo(self):
+        session = Session(text_of((1, 1), ["ta-ble"], ["a2b"]))
+        self.assert_left(session, undo(), -8)
+        session.ask(round_of(*RIGHT_ROUND))
+        session.ask(undo())
+        self.assert_left(session, undo(), -8)
 
     def test_what_comes_behind_is_as_without(self):
         looks = [candidates(1, 2), count("a1b"), round_of(1, 2, 1, 1, 1), candidates(2, 3), rounds()]

@@ -2,19 +2,17 @@
 
 import unittest
 
-from helper import (WORKED, ask, ask_after, candidates, count, learner_with, load, patterns_of, rounds, round_of,
+from helper import (WORKED, ask, ask_after, candidates, count, forget, load, named, patterns, rounds, round_of, score,
                     text_of)
-from partrounds.learning import load as load_into, round_of as make_round, rounds as make_rounds
 
 TRAP = text_of((1, 1), ["a-b", "xa-b", "aby", "c-d", "cdx", "cdy"])
 
 
 def held_after(text, *rounds_made):
     """Give the patterns after some rounds, as texts, in order."""
-    learner = learner_with(text)
-    for numbers in rounds_made:
-        assert make_round(learner, list(numbers))[0] >= 0
-    return patterns_of(learner)
+    told = ask_after(text, *[round_of(*numbers) for numbers in rounds_made], patterns())
+    assert all(answer[0] >= 0 for answer in told)
+    return named(told[-1])
 
 
 class Taking(unittest.TestCase):
@@ -95,20 +93,8 @@ class Merging(unittest.TestCase):
 
     def test_the_list_itself_stays(self):
         text = text_of((1, 1), ["xa-by"], ["2ab4"])
-        learner = learner_with(text)
-        make_round(learner, [1, 2, 1, 1, 1])
-        self.assertEqual(list(learner.held.patterns.values()), [(2, 0, 4)])
-
-
-class Told(unittest.TestCase):
-    """A pattern's bytes are as under Lists."""
-
-    def test_the_lists_patterns_are_the_first_ones_as_told(self):
-        patterns = ["a1", "1b", "1c2", ".a1", ".1b", "a1.", "1b.", "2c3.", ".2a1.", "1a2b3c4d5e6f7",
-                    ".abc9def.", "9bcdefg", ".abcdef8", "ab1", "b4a3."]
-        self.assertEqual(held_after(text_of((1, 1), ["x-y"], patterns)), patterns)
-        self.assertEqual(held_after(text_of((1, 1), ["x-y"], patterns), (1, 2, 1, 1, 1)),
-                         patterns + [".x1", "x1y", "1y."])
+        told = ask_after(text, round_of(1, 2, 1, 1, 1), patterns(), forget(), patterns())
+        self.assertEqual([named(told[1]), named(told[3])], [["2a1b4", "xa1", "1by"], ["2ab4"]])
 
 
 class OneAfterTheOther(unittest.TestCase):
@@ -122,63 +108,20 @@ class OneAfterTheOther(unittest.TestCase):
 
     def test_rounds_are_as_round_by_round(self):
         several = [(1, 2, 1, 1, 1), (2, 3, 1, 1, 1), (3, 4, 1, 1, 1), (4, 1, 0, 0, 0), (5, 8, 1, 0, 1)]
+        looks = [patterns(), candidates(1, 2)]
         for size in range(len(several) + 1):
             flat = [number for numbers in several[:size] for number in numbers]
-            single = ask_after(WORKED, *[round_of(*numbers) for numbers in several[:size]], rounds(), candidates(1, 2))
-            together = ask_after(WORKED, rounds(*flat), candidates(1, 2))
-            self.assertEqual(together, single[-2:])
+            single = ask_after(WORKED, *[round_of(*numbers) for numbers in several[:size]], score(), *looks)
+            together = ask_after(WORKED, rounds(*flat), *looks)
+            self.assertEqual(together, single[-3:])
 
     def test_ten_rounds(self):
-        told = ask_after(WORKED, rounds(*([1, 2, 1, 1, 1, 2, 3, 1, 1, 1] * 5)), rounds())
+        told = ask_after(WORKED, rounds(*([1, 2, 1, 1, 1, 2, 3, 1, 1, 1] * 5)), score())
         self.assertEqual(told[0], told[1])
         self.assertGreater(told[0][0], 0)
 
     def test_no_round(self):
         self.assertEqual(ask_after(WORKED, rounds()), [[0, 0, 0, 0, 3]])
-
-
-class BroughtBack(unittest.TestCase):
-    """What the object holds of earlier rounds."""
-
-    def test_the_patterns_before_each_round(self):
-        learner = learner_with(WORKED)
-        seen = []
-        for numbers in ([1, 2, 1, 1, 1], [2, 3, 1, 1, 1], [3, 4, 1, 1, 1]):
-            seen.append(dict(learner.patterns))
-            make_round(learner, numbers)
-        self.assertEqual(learner.earlier, seen)
-
-    def test_rounds_are_one(self):
-        learner = learner_with(WORKED)
-        make_rounds(learner, [1, 2, 1, 1, 1, 2, 3, 1, 1, 1])
-        self.assertEqual(learner.earlier, [{}])
-
-    def test_no_round_is_none(self):
-        learner = learner_with(WORKED)
-        make_rounds(learner, [])
-        self.assertEqual(learner.earlier, [])
-
-    def test_a_round_that_takes_nothing_is_one(self):
-        learner = learner_with(WORKED)
-        make_round(learner, [1, 2, 0, 0, 1])
-        self.assertEqual(learner.earlier, [{}])
-
-    def test_the_last_twenty(self):
-        learner = learner_with(text_of((1, 1), ["a-b"], ["a2b"]))
-        make_round(learner, [3, 2, 1, 1, 1])
-        for step in range(19):
-            make_round(learner, [1, 1, 1, 1, 1])
-        self.assertEqual((len(learner.earlier), len(learner.earlier[0])), (20, 1))
-        make_rounds(learner, [1, 1, 1, 1, 1])
-        self.assertEqual((len(learner.earlier), len(learner.earlier[0])), (20, 3))
-
-    def test_a_load_leaves_none(self):
-        learner = learner_with(WORKED)
-        make_round(learner, [1, 2, 1, 1, 1])
-        load_into(learner, list(b"!"))
-        self.assertEqual(len(learner.earlier), 1)
-        load_into(learner, list(WORKED.encode()))
-        self.assertEqual(learner.earlier, [])
 
 
 class Line(unittest.TestCase):
